@@ -1,0 +1,1 @@
+"""The wire between machines and the nurses' station."""
