@@ -1,10 +1,11 @@
-"""The calls: what each refuses, what it does, and what it answers.
+"""The calls: what they refuse, and what those that change something do and answer.
 
 Each call's function is handed the ward, the call's whole numbers and its row, and gives back the answer
 as a list. What the functions are handed has been looked at by common_refusal.
 """
 
-from nursewire.traffic import NET_LIMIT, arrive, log_event, send_ask, tick
+from nursewire.looks import look
+from nursewire.traffic import NET_LIMIT, arrive, calm_round, log_event, send_ask, tick
 from nursewire.ward import Desk, Machine, Packet
 
 OUT_OF_RANGE = -1
@@ -36,17 +37,27 @@ RANGES = {
     8: ((0, 3),),
     9: ((0, 3),),
     10: (),
+    11: ((1, 100),),
+    12: (),
+    13: ((0, 199),),
+    14: ((0, 3),),
+    15: ((0, 3),),
+    16: ((0, 3), (0, 199)),
+    17: ((0, 3), (0, 199)),
+    18: ((0, 3),),
+    19: (),
+    20: (),
 }
 
 # The calls that have a row of bytes, and how long it may be.
-ROW_LIMITS = {1: 16}
+ROW_LIMITS = {1: 16, 19: 40}
 
 # The calls that need nothing open.
-FREE_CALLS = (0,)
+FREE_CALLS = (0, 19)
 
 # The calls whose first number is a machine, and those whose first number is a packet's place.
-MACHINE_CALLS = (1, 7, 8, 9)
-PACKET_CALLS = (3, 4, 5, 6)
+MACHINE_CALLS = (1, 7, 8, 9, 14, 15, 16, 17, 18)
+PACKET_CALLS = (3, 4, 5, 6, 13)
 
 
 def open_ward(ward, numbers, row):
@@ -160,6 +171,14 @@ def blink_station(ward, numbers, row):
     return [gone]
 
 
+def calm_down(ward, numbers, row):
+    """11 calm: so many rounds of calm."""
+    for done in range(numbers[0]):
+        calm_round(ward)
+    return [len(desk.copied) for desk in ward.desks]
+
+
+# The calls that change something; the others only look.
 HANDLERS = {
     0: open_ward,
     1: add_to_log,
@@ -172,6 +191,7 @@ HANDLERS = {
     8: bring_back,
     9: lose_copy,
     10: blink_station,
+    11: calm_down,
 }
 
 
@@ -213,5 +233,7 @@ def perform(ward, place, numbers, row):
     refusal = common_refusal(ward, place, numbers, row)
     if refusal < 0:
         return [refusal]
+    if place not in HANDLERS:
+        return look(ward, place, numbers, row)
     handler = HANDLERS[place]
     return handler(ward, numbers, row)

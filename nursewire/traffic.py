@@ -1,4 +1,4 @@
-"""What's done: how frames are sent, how packets arrive, and how time passes."""
+"""What's done: how frames are sent, how packets arrive, how time passes, and what a calm is."""
 
 from nursewire.frames import ACK, ASK, DATA, make_frame, read_frame
 from nursewire.ward import TO_MACHINE, TO_STATION, Packet
@@ -156,3 +156,13 @@ def tick(ward):
     """One tick for each machine, in the order of their numbers."""
     for number in range(len(ward.machines)):
         tick_machine(ward, number)
+
+
+def calm_round(ward):
+    """A tick, and then all that's on the net arrives."""
+    tick(ward)
+    # The net is empty before the first one arrives: what is sent then has all its room, and waits.
+    arriving = ward.packets
+    ward.packets = []
+    for packet in arriving:
+        arrive(ward, packet)

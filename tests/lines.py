@@ -51,17 +51,71 @@ def blink():
     return [10]
 
 
+def calm(n):
+    return [11, n]
+
+
+def net():
+    return [12]
+
+
+def packet(i):
+    return [13, i]
+
+
+def sender(m):
+    return [14, m]
+
+
+def station(m):
+    return [15, m]
+
+
+def copy(m, j):
+    return [16, m, j]
+
+
+def event(m, j):
+    return [17, m, j]
+
+
+def whole(m):
+    return [18, m]
+
+
+def frame(*octets):
+    return [19, len(octets), *octets]
+
+
+def totals():
+    return [20]
+
+
 def joined(calls):
     """One flat list of all the calls, as the interface takes it."""
     return [number for call in calls for number in call]
 
 
+def told(*calls):
+    """What the interface answers to the calls, a list for each of them."""
+    given = answers(joined(calls))
+    parts = []
+    at = 0
+    while at < len(given):
+        behind = at + 1 + given[at]
+        parts.append(given[at + 1:behind])
+        at = behind
+    if at != len(given) or len(parts) != len(calls) or [] in parts:
+        raise AssertionError("not an answer for each call: " + repr(given))
+    return parts
+
+
 def answered(*calls):
     """What the interface answers to the calls, one number for each of them."""
-    given = answers(joined(calls))
-    if given[0::2] != [1] * len(calls):
-        raise AssertionError("not one number for each call: " + repr(given))
-    return given[1::2]
+    parts = told(*calls)
+    if [len(part) for part in parts] != [1] * len(calls):
+        raise AssertionError("not one number for each call: " + repr(parts))
+    return [part[0] for part in parts]
 
 
 def state(ward):
@@ -81,17 +135,22 @@ class Line:
 
     def __init__(self, *calls):
         self.ward = Ward()
-        self.do(*calls)
+        self.ask(*calls)
 
-    def do(self, *calls):
-        """Do the calls; give the last one's answer, which is one number."""
+    def ask(self, *calls):
+        """Do the calls; give the last one's answer, a list."""
         answer = [None]
         for call in calls:
             behind = 1 + count_numbers(call[0])
             row = call[behind + 1:] if has_row(call[0]) else []
             answer = perform(self.ward, call[0], call[1:behind], row)
-            if len(answer) != 1:
-                raise AssertionError("not one number: " + repr(answer))
+        return answer
+
+    def do(self, *calls):
+        """Do the calls; give the last one's answer, which is one number."""
+        answer = self.ask(*calls)
+        if len(answer) != 1:
+            raise AssertionError("not one number: " + repr(answer))
         return answer[0]
 
     def net(self):

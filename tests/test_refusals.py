@@ -1,24 +1,31 @@
 import unittest
 
-from lines import (GREATEST, Line, answered, back, begin, blink, cut, deliver, double, drop, full_net, log, lose,
-                   spoil, state, tick)
+from lines import (GREATEST, Line, answered, back, begin, blink, calm, copy, cut, deliver, double, drop, event, frame,
+                   full_net, log, lose, net, packet, sender, spoil, state, station, tick, totals, whole)
 
-# Each call with arguments in their ranges, for the machine or the packet 0.
-FITTING = [log(0, 1), tick(1), deliver(0), drop(0), double(0), spoil(0, 0, 1), cut(0), back(0), lose(0), blink()]
+# Each call that needs something open, with arguments in their ranges, for the machine or the packet 0.
+FITTING = [log(0, 1), tick(1), deliver(0), drop(0), double(0), spoil(0, 0, 1), cut(0), back(0), lose(0), blink(),
+           calm(1), net(), packet(0), sender(0), station(0), copy(0, 0), event(0, 0), whole(0), totals()]
+
+# The calls with a machine, and those with a packet.
+OF_A_MACHINE = [log, cut, back, lose, sender, station, lambda m: copy(m, 0), lambda m: event(m, 0), whole]
+OF_A_PACKET = [deliver, drop, double, lambda i: spoil(i, 0, 1), packet]
 
 # Each call with an argument out of its range.
 OUT_OF_RANGE = (
     [begin(k, 1, 1) for k in [0, 5, -1, GREATEST, -GREATEST]]
     + [begin(1, w, 1) for w in [0, 9, -1, GREATEST, -GREATEST]]
     + [begin(1, 1, r) for r in [0, 51, -1, GREATEST, -GREATEST]]
-    + [call(m) for call in [log, cut, back, lose] for m in [-1, 4, GREATEST, -GREATEST]]
+    + [call(m) for call in OF_A_MACHINE for m in [-1, 4, GREATEST, -GREATEST]]
     + [log(0, octet) for octet in [-1, 256, GREATEST, -GREATEST]]
     + [log(0, *[1] * length) for length in [17, 18, 50]]
-    + [tick(n) for n in [0, 101, -1, GREATEST, -GREATEST]]
-    + [call(i) for call in [deliver, drop, double] for i in [-1, 200, GREATEST, -GREATEST]]
-    + [spoil(i, 0, 1) for i in [-1, 200, GREATEST, -GREATEST]]
+    + [call(n) for call in [tick, calm] for n in [0, 101, -1, GREATEST, -GREATEST]]
+    + [call(i) for call in OF_A_PACKET for i in [-1, 200, GREATEST, -GREATEST]]
     + [spoil(0, k, 1) for k in [-1, 32, GREATEST, -GREATEST]]
     + [spoil(0, 0, x) for x in [0, -1, 256, GREATEST, -GREATEST]]
+    + [call(0, j) for call in [copy, event] for j in [-1, 200, GREATEST, -GREATEST]]
+    + [frame(octet) for octet in [-1, 256, GREATEST, -GREATEST]]
+    + [frame(*[1] * length) for length in [41, 42, 50]]
 )
 
 
@@ -50,6 +57,8 @@ class OutOfRange(unittest.TestCase):
         self.assertEqual(answered(begin(1, 8, 50), log(3, 256), log(3, *[1] * 17), log(3, 1)), [0, -1, -1, -3])
         self.assertEqual(answered(begin(1, 8, 50), spoil(9, 32, 1), spoil(9, 0, 256), spoil(9, 0, 1)),
                          [0, -1, -1, -4])
+        self.assertEqual(answered(begin(1, 8, 50), copy(3, 200), event(3, -1), copy(3, 0), event(3, 0)),
+                         [0, -1, -1, -3, -3])
 
     def test_before_the_others(self):
         self.assertEqual(answered(begin(1, 8, 50), cut(0), log(0, 256), log(0, 1)), [0, 0, -1, -6])
@@ -62,8 +71,9 @@ class NothingOpen(unittest.TestCase):
             self.assertEqual(answered(call), [-2], call)
 
     def test_before_no_machine_and_no_packet(self):
-        self.assertEqual(answered(log(3), cut(3), back(3), lose(3), deliver(199), drop(199), double(199),
-                                  spoil(199, 31, 255)), [-2] * 8)
+        for call in [call(3) for call in OF_A_MACHINE] + [call(199) for call in OF_A_PACKET]:
+            self.assertEqual(answered(call), [-2], call)
+        self.assertEqual(answered(spoil(199, 31, 255), copy(3, 199), event(3, 199), calm(100)), [-2] * 4)
 
     def test_nothing_is_changed(self):
         line = Line()
@@ -72,28 +82,32 @@ class NothingOpen(unittest.TestCase):
             self.assertEqual(line.do(call), -2)
             self.assertEqual(state(line.ward), before)
         self.assertEqual(answered(*FITTING, begin(1, 8, 1), log(0, 9), deliver(0), deliver(0), lose(0)),
-                         [-2] * 10 + [0, 1, 2, 2, 1])
+                         [-2] * 19 + [0, 1, 2, 2, 1])
 
 
 class NoMachineNoPacket(unittest.TestCase):
     def test_no_machine(self):
         for k in [1, 2, 3]:
-            for call in [log(k, 1), log(3), cut(k), cut(3), back(k), back(3), lose(k), lose(3)]:
+            for call in [call(m) for call in OF_A_MACHINE for m in [k, 3]]:
                 self.assertEqual(answered(begin(k, 8, 50), call), [0, -3], call)
+
+    def test_no_machine_comes_before_the_others(self):
+        self.assertEqual(answered(begin(1, 8, 50), copy(1, 0), copy(1, 199), event(1, 0), event(1, 199)),
+                         [0, -3, -3, -3, -3])
 
     def test_no_packet(self):
         for i in [0, 1, 198, 199]:
-            for call in [deliver(i), drop(i), double(i), spoil(i, 0, 1), spoil(i, 31, 255)]:
+            for call in [call(i) for call in OF_A_PACKET] + [spoil(i, 31, 255)]:
                 self.assertEqual(answered(begin(4, 8, 50), call), [0, -4], call)
 
     def test_nothing_is_changed(self):
         line = Line(begin(1, 8, 50), log(0, 1), deliver(0), log(0, 2))
         before = state(line.ward)
-        for call in [log(1, 1), cut(1), back(1), lose(1)]:
-            self.assertEqual(line.do(call), -3)
+        for call in OF_A_MACHINE:
+            self.assertEqual(line.do(call(1)), -3)
             self.assertEqual(state(line.ward), before)
-        for call in [deliver(2), drop(2), double(2), spoil(2, 0, 1)]:
-            self.assertEqual(line.do(call), -4)
+        for call in OF_A_PACKET:
+            self.assertEqual(line.do(call(2)), -4)
             self.assertEqual(state(line.ward), before)
 
 
@@ -131,6 +145,12 @@ class TheOthers(unittest.TestCase):
     def test_the_last_turn(self):
         line = Line(begin(1, 8, 50), *[lose(0)] * 50, log(0, 1), log(0, 2), log(0, 3), deliver(0), deliver(1))
         self.unchanged(line, lose(0), -12)
+
+    def test_no_such_event(self):
+        self.unchanged(busy_line(), event(0, 4), -13)
+        self.unchanged(busy_line(), event(1, 199), -13)
+        self.unchanged(busy_line(), copy(0, 1), -13)
+        self.unchanged(busy_line(), copy(1, 0), -13)
 
 
 if __name__ == "__main__":
